@@ -1,0 +1,1 @@
+"""Query plans whose answers do not depend on how intervals are cut."""
