@@ -1,7 +1,18 @@
 """What several tests share: places on the time line, and slow answers to compare with."""
 
+from cutproof.errors import CutError
+
 # Moments near 0, below 0, and of 30 digits on both sides.
 BASES = (0, -2, -50, 10**29, 10**30 - 20, -(10**30) + 20)
+
+# Where a test picks at random, it picks the same each time.
+SEED = 20
+
+# Marks that are not strictly ascending: one twice or two exchanged, at each place.
+BAD_MARKS = (
+    (0, 0), (1, 0), (0, 0, 4), (0, 4, 4), (4, 0, 9), (0, 9, 4), (0, 4, 0), (9, 4, 0),
+    (0, 0, 4, 9), (0, 4, 4, 9), (0, 4, 9, 9), (4, 0, 9, 12), (0, 9, 4, 12), (0, 4, 12, 9),
+)
 
 
 def moved(rows, base):
@@ -57,3 +68,21 @@ def is_plain(value):
     if type(value) in (list, tuple):
         return all(is_plain(item) for item in value)
     return value is None or type(value) in (int, str, bool)
+
+
+def sign(one, other):
+    return (one > other) - (one < other)
+
+
+def signs(numbers, marks):
+    """How each number compares to each other one and to each mark."""
+    return [[sign(number, other) for other in [*numbers, *marks]] for number in numbers]
+
+
+def raises_only(case, error, call):
+    """Check that a call raises the error itself, which is a CutError and so a ValueError, and return it."""
+    with case.assertRaises(ValueError) as caught:
+        call()
+    case.assertIs(type(caught.exception), error)
+    case.assertIsInstance(caught.exception, CutError)
+    return caught.exception

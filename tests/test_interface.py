@@ -3,12 +3,15 @@
 import inspect
 import unittest
 
-from cutproof import intervals, tables
+from cutproof import intervals, notation, orders, plans, tables
 from samples import BASES
 
 # For each module its functions and, for each class, the methods that the class itself defines.
 FUNCTIONS = {
     tables: {"rows_at": ["rows", "moment"], "merge_rows": ["rows"], "first_change": ["before", "after"]},
+    orders: {"patterns": ["count", "marks"], "cut_patterns": ["count", "marks"]},
+    notation: {"format_step": ["step"], "parse_step": ["line", "number"]},
+    plans: {"united": ["first", "others"], "paired": ["left", "right", "tests", "span"]},
 }
 METHODS = {
     intervals: {
@@ -31,7 +34,25 @@ METHODS = {
             "lines": ["self"],
         },
     },
+    orders: {"Order": {"tight": ["numbers", "marks"], "same": ["one", "two", "marks"]}},
+    plans: {
+        "Plan": {
+            "__init__": ["self", "steps", "marks"],
+            "read": ["text", "marks"],
+            "change_marks": ["self", "marks"],
+            "without": ["self", "number", "index"],
+            "__call__": ["self", "store"],
+        },
+    },
 }
+PROPERTIES = {tables.Table: ["is_merged"], plans.Plan: ["marks", "width", "text"]}
+STATIC = {orders.Order: ["tight", "same"], plans.Plan: ["read"]}
+DEFAULTS = (
+    (tables.Table, "rows", ()), (plans.Plan, "marks", ()), (plans.Plan.read, "marks", ()),
+    (orders.Order.tight, "marks", ()), (orders.Order.same, "marks", ()),
+    (orders.patterns, "marks", ()), (orders.cut_patterns, "marks", ()),
+    (notation.parse_step, "number", 1), (plans.paired, "span", "meet"),
+)
 
 
 def arguments(function):
@@ -54,13 +75,34 @@ class Interface(unittest.TestCase):
                 for method, expected in methods.items():
                     self.assertIn(method, vars(own), name)
                     if expected is not None:
-                        self.assertEqual(arguments(vars(own)[method]), expected, method)
+                        self.assertEqual(arguments(inspect.getattr_static(own, method)), expected, method)
 
-    def test_is_merged_is_a_property(self):
-        self.assertIsInstance(vars(tables.Table)["is_merged"], property)
+    def test_properties(self):
+        for own, names in PROPERTIES.items():
+            for name in names:
+                self.assertIsInstance(vars(own)[name], property, name)
 
-    def test_rows_may_be_left_out(self):
-        self.assertEqual(inspect.signature(tables.Table).parameters["rows"].default, ())
+    def test_static_methods(self):
+        for own, names in STATIC.items():
+            for name in names:
+                self.assertIsInstance(vars(own)[name], staticmethod, name)
+
+    def test_what_may_be_left_out(self):
+        for function, name, default in DEFAULTS:
+            self.assertEqual(inspect.signature(function).parameters[name].default, default)
+
+    def test_generators(self):
+        for function in (orders.patterns, orders.cut_patterns):
+            self.assertTrue(inspect.isgeneratorfunction(function))
+
+    def test_stars(self):
+        paired, united = inspect.signature(plans.paired).parameters, inspect.signature(plans.united).parameters
+        self.assertIs(united["others"].kind, inspect.Parameter.VAR_POSITIONAL)
+        self.assertIs(paired["tests"].kind, inspect.Parameter.VAR_POSITIONAL)
+        self.assertIs(paired["span"].kind, inspect.Parameter.KEYWORD_ONLY)
+
+    def test_fields_of_a_plan(self):
+        self.assertLessEqual({"steps", "columns", "names"}, set(vars(plans.Plan([("table", "a", 1)]))))
 
     def test_sample_moments_have_at_most_thirty_digits(self):
         for base in BASES:

@@ -119,6 +119,36 @@ class Language(unittest.TestCase):
         for path, source in SOURCES.items():
             self.assertIsNone(UNUSED.search(source), path)
 
+    def test_what_operators_and_generators_leave_out(self):
+        for path, node in nodes(ast.GeneratorExp, ast.Lambda):
+            self.fail(f"{path}, line {node.lineno}")
+        for path, node in nodes(ast.Attribute):
+            self.assertNotIn(node.attr, ("sort", "keys", "format"), (path, node.lineno))
+        generators = {node.name for _, node in nodes(ast.FunctionDef) if yields(node)}
+        for path, node in nodes(ast.FunctionDef):
+            if not yields(node):
+                self.assertNotIn(node.name, generators, path)
+        for path, node in nodes(ast.Name):
+            self.assertNotIsInstance(node.ctx if node.id in generators else None, ast.Store, path)
+
+    def test_sets_stand_only_where_they_may(self):
+        for path, tree in TREES.items():
+            for node in ast.walk(tree):
+                for child in ast.iter_child_nodes(node):
+                    if is_set(child):
+                        called = isinstance(node, ast.Call) and ast.unparse(node.func) in ("sorted", "len")
+                        self.assertTrue(called or isinstance(node, (ast.BinOp, ast.Compare)), (path, child.lineno))
+
+
+def yields(function):
+    return any(isinstance(node, (ast.Yield, ast.YieldFrom)) for node in ast.walk(function))
+
+
+def is_set(node):
+    """Whether a set is made here; the variables that keep one are not looked at."""
+    made = isinstance(node, ast.Call) and ast.unparse(node.func) == "set"
+    return made or isinstance(node, (ast.Set, ast.SetComp))
+
 
 def bound_in(tree):
     """The names that a module itself defines."""
