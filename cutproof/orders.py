@@ -60,41 +60,83 @@ def between(number, marks):
     return list(range(min(base, number) + 1, max(base, number)))
 
 
-def lacking(parts, marks):
-    """Return how many more different numbers the parts need at least to be their own tight form."""
-    numbers = [number for part in parts for number in part]
-    return len({moment for number in numbers for moment in between(number, marks)} - set(numbers))
+def levels_of(many, marks):
+    """Return the moments of tight forms, each with its bit and the bits of the moments that it demands."""
+    moments = tight_moments(many, marks)
+    bits = {moment: 1 << place for place, moment in enumerate(moments)}
+    return [(moment, bits[moment], sum([bits[other] for other in between(moment, marks)])) for moment in moments]
 
 
-def extended(begun, spans, many, marks):
-    """Return the tuples in tight form that begin like one of those begun and go on with `many` spans."""
-    found = [parts for parts in begun if lacking(parts, marks) <= 2 * many]
-    for left in reversed(range(many)):
-        longer = [(*parts, span) for parts in found for span in spans]
-        found = [parts for parts in longer if lacking(parts, marks) <= 2 * left]
+def count_bits(bits):
+    """Return how many bits are set."""
+    many = 0
+    while bits:
+        bits = bits & (bits - 1)
+        many = many + 1
+    return many
+
+
+def ways_on(held, demanded, levels, left):
+    """Return the moments that can follow where these are held and demanded, with what is so behind each.
+
+    After each of them at most `left` of the moments that are demanded are still lacking.
+    """
+    found = []
+    for moment, bit, more in levels:
+        held_then, demanded_then = held | bit, demanded | more
+        if count_bits(demanded_then & ~held_then) <= left:
+            found.append((moment, held_then, demanded_then))
     return found
 
 
-def spans_of(moments):
-    """Return all pairs of a lesser and a greater one of the moments, which ascend, in ascending order."""
-    return [(start, stop) for start in moments for stop in moments if start < stop]
+def tight_tuples(many, marks, above, below):
+    """Return the tuples of `many` numbers that are their own tight form, in ascending order.
+
+    `above` and `below` name, for some places of the tuple, the earlier place whose number is less or greater.
+    """
+    levels = levels_of(many, marks)
+    begun = [((), 0, 0)]
+    for place in range(many):
+        # What is demanded follows from what is held, so tuples that hold the same go on in the same ways.
+        ways = {}
+        longer = []
+        for numbers, held, demanded in begun:
+            if held not in ways:
+                ways[held] = ways_on(held, demanded, levels, many - place - 1)
+            low = numbers[above[place]] if place in above else levels[0][0] - 1
+            high = numbers[below[place]] if place in below else levels[-1][0] + 1
+            longer.extend([((*numbers, way[0]), way[1], way[2]) for way in ways[held] if low < way[0] < high])
+        begun = longer
+    return [state[0] for state in begun]
+
+
+def pair_numbers(count, marks):
+    """Return the numbers of each tuple of `count` pairs in tight form, in ascending order."""
+    if count < 0:
+        return []
+    return tight_tuples(2 * count, marks, {stop: stop - 1 for stop in range(1, 2 * count, 2)}, {})
+
+
+def cut_numbers(count, marks):
+    """Return the moment of the cut and the numbers of the pairs of each cut pattern, in ascending order."""
+    # Without a first pair there is nothing to cut.
+    if count < 1:
+        return []
+    above = {stop: stop - 1 for stop in range(4, 2 * count + 1, 2)}
+    return tight_tuples(2 * count + 1, marks, {2: 0, **above}, {1: 0})
 
 
 def patterns(count, marks=()):
     """Yield each tuple of `count` pairs that is its own tight form, in ascending order."""
     check_marks(marks)
     check_moments(count, marks)
-    spans = spans_of(tight_moments(2 * count, marks))
-    for pairs in extended([()], spans, count, marks):
-        yield pairs
+    for numbers in pair_numbers(count, marks):
+        yield tuple(zip(numbers[::2], numbers[1::2]))
 
 
 def cut_patterns(count, marks=()):
     """Yield each tuple `(at, pairs)` in tight form that cuts its first pair, in ascending order."""
     check_marks(marks)
     check_moments(count, marks)
-    moments = tight_moments(2 * count + 1, marks)
-    spans = spans_of(moments)
-    begun = [((at,), span) for at in moments for span in spans if span[0] < at < span[1]]
-    for cut, *pairs in extended(begun, spans, count - 1, marks):
-        yield cut[0], tuple(pairs)
+    for numbers in cut_numbers(count, marks):
+        yield numbers[0], tuple(zip(numbers[1::2], numbers[2::2]))

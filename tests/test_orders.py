@@ -1,5 +1,6 @@
 import itertools
 import random
+import sys
 import unittest
 
 from cutproof import errors
@@ -173,6 +174,16 @@ class Patterns(unittest.TestCase):
             self.assertEqual(len(list(patterns(count))), many)
             self.assertEqual(len(list(cut_patterns(count))), cut)
 
+    def test_how_many_there_are_with_marks(self):
+        for marks, many, cut in (((0,), None, 239), ((0, 2), None, 756), ((0, 4), None, 1115), ((0, 9), 409, 1177)):
+            self.assertEqual(len(list(cut_patterns(2, marks))), cut)
+            self.assertIn(many, (None, len(list(patterns(2, marks)))))
+
+    def test_counts_that_are_too_small(self):
+        for marks in ((), (3,), (3, 9)):
+            self.assertEqual([list(patterns(count, marks)) for count in (0, -1, -2)], [[()], [], []])
+            self.assertEqual([list(cut_patterns(count, marks)) for count in (0, -1, -2)], [[], [], []])
+
     def test_the_least_ones(self):
         self.assertEqual(list(patterns(1)), [((0, 1),)])
         self.assertEqual(list(cut_patterns(1)), [(1, ((0, 2),))])
@@ -246,6 +257,35 @@ class Patterns(unittest.TestCase):
             found = generate(2)
             self.assertIs(iter(found), found)
             self.assertEqual(next(found), list(generate(2))[0])
+
+
+def lines_run(call):
+    """How many lines of Python a call runs: a measure of time that is the same on every machine."""
+    many = 0
+
+    def count_lines(frame, event, value):
+        nonlocal many
+        many += event == "line"
+        return count_lines
+
+    before = sys.gettrace()
+    sys.settrace(count_lines)
+    try:
+        call()
+    finally:
+        sys.settrace(before)
+    return many
+
+
+class HowLong(unittest.TestCase):
+    def test_few_lines_for_each_tuple(self):
+        # When what still lacks was reckoned anew for each tuple that is begun, these took 300 to 1200 lines a tuple.
+        for generate, count, marks in (
+            (cut_patterns, 2, (0, 9)), (cut_patterns, 2, (0, 4)), (cut_patterns, 2, (0, 2)), (cut_patterns, 3, ()),
+            (cut_patterns, 2, (0,)), (patterns, 2, (0, 9)), (patterns, 3, ()),
+        ):
+            many = len(list(generate(count, marks)))
+            self.assertLess(lines_run(lambda: list(generate(count, marks))), 150 * many, (count, marks))
 
 
 class PatternErrors(unittest.TestCase):
