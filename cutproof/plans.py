@@ -5,7 +5,7 @@ from cutproof.errors import BadLine, BadMarks, BadStep, Mismatch, NoTable, NoTes
 from cutproof.notation import format_step, parse_step
 from cutproof.orders import check_marks
 from cutproof.running import step_rows
-from cutproof.steps import count_tests, moved_steps, plain_part, sources, used_steps
+from cutproof.steps import count_tests, moved_steps, plain_part, sources, table_sizes, used_steps
 
 MOST_ROWS = 40
 
@@ -18,7 +18,7 @@ class Plan:
         self._marks = plain_part(tuple(marks))
         self.steps = plain_part(tuple(steps))
         self.columns = self._shapes[-1][0]
-        self._sizes = {step[1]: step[2] for step in self.steps if step[0] == "table"}
+        self._sizes = table_sizes(self.steps)
         self.names = tuple(sorted(self._sizes))
 
     @staticmethod

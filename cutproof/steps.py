@@ -55,6 +55,11 @@ def used_steps(steps):
     return sorted(set(used))
 
 
+def table_sizes(steps):
+    """Return the number of columns of each table that the steps name."""
+    return {step[1]: step[2] for step in steps if step[0] == "table"}
+
+
 def count_tests(step):
     """Return how many tests a step has."""
     if step[0] == "pair":

@@ -3,7 +3,7 @@
 import inspect
 import unittest
 
-from cutproof import intervals, notation, orders, plans, tables
+from cutproof import intervals, judge, notation, orders, plans, readings, tables, work
 from samples import BASES
 
 # For each module its functions and, for each class, the methods that the class itself defines.
@@ -12,6 +12,15 @@ FUNCTIONS = {
     orders: {"patterns": ["count", "marks"], "cut_patterns": ["count", "marks"]},
     notation: {"format_step": ["step"], "parse_step": ["line", "number"]},
     plans: {"united": ["first", "others"], "paired": ["left", "right", "tests", "span"]},
+    readings: {"readings": ["plan"], "reading_row": ["plan", "number", "rows"]},
+    work: {
+        "shown": ["plan", "store", "name", "row", "at"],
+        "timeline": ["plan", "store"], "answer_at": ["plan", "store", "moment"],
+    },
+    judge: {
+        "leak": ["plan", "merged"], "least_merge_sets": ["plan"], "why_needed": ["plan", "names"],
+        "stable_answer": ["plan", "store"], "difference": ["one", "two"], "idle_tests": ["plan"],
+    },
 }
 METHODS = {
     intervals: {
@@ -52,6 +61,7 @@ DEFAULTS = (
     (orders.Order.tight, "marks", ()), (orders.Order.same, "marks", ()),
     (orders.patterns, "marks", ()), (orders.cut_patterns, "marks", ()),
     (notation.parse_step, "number", 1), (plans.paired, "span", "meet"),
+    (judge.leak, "merged", ()),
 )
 
 
@@ -92,7 +102,7 @@ class Interface(unittest.TestCase):
             self.assertEqual(inspect.signature(function).parameters[name].default, default)
 
     def test_generators(self):
-        for function in (orders.patterns, orders.cut_patterns):
+        for function in (orders.patterns, orders.cut_patterns, work.timeline):
             self.assertTrue(inspect.isgeneratorfunction(function))
 
     def test_stars(self):
@@ -100,6 +110,12 @@ class Interface(unittest.TestCase):
         self.assertIs(united["others"].kind, inspect.Parameter.VAR_POSITIONAL)
         self.assertIs(paired["tests"].kind, inspect.Parameter.VAR_POSITIONAL)
         self.assertIs(paired["span"].kind, inspect.Parameter.KEYWORD_ONLY)
+        self.assertIs(inspect.signature(judge.leak).parameters["merged"].kind, inspect.Parameter.KEYWORD_ONLY)
+
+    def test_findings(self):
+        for name in ("Finding", "Leak", "Difference"):
+            self.assertEqual(getattr(judge, name).__module__, judge.__name__)
+        self.assertEqual((judge.Leak.__bases__, judge.Difference.__bases__), ((judge.Finding,), (judge.Finding,)))
 
     def test_fields_of_a_plan(self):
         self.assertLessEqual({"steps", "columns", "names"}, set(vars(plans.Plan([("table", "a", 1)]))))
