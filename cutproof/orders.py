@@ -100,7 +100,8 @@ def tight_tuples(many, marks, above, below):
         # What is demanded follows from what is held, so tuples that hold the same go on in the same ways.
         ways = {}
         longer = []
-        for numbers, held, demanded in begun:
+        # A copy is walked, since in the next round `begun` is the very list that `longer` was.
+        for numbers, held, demanded in list(begun):
             if held not in ways:
                 ways[held] = ways_on(held, demanded, levels, many - place - 1)
             low = numbers[above[place]] if place in above else levels[0][0] - 1
